@@ -1,0 +1,1 @@
+"""Allocating lots to orders."""

@@ -1,0 +1,54 @@
+"""What sets of orders lack, and how much can be served because of it."""
+
+
+def members(mask):
+    """Give the numbers in a set, in increasing order."""
+    return [number for number in range(mask.bit_length()) if (mask >> number) & 1 == 1]
+
+
+def accepted_lots(stock, orders):
+    """Give the set of the lots that at least one order of the set accepts."""
+    lots = 0
+    for order in members(orders):
+        lots = lots | stock.order_lots[order]
+    return lots
+
+
+def wanted_area(stock, orders):
+    """Give the sum of the areas that the orders of the set want."""
+    return sum([stock.order_areas[order] for order in members(orders)])
+
+
+def available_area(stock, orders):
+    """Give the sum of the areas of the lots that the orders of the set accept."""
+    return sum([stock.lot_areas[lot] for lot in members(accepted_lots(stock, orders))])
+
+
+def shortage_of(stock, orders):
+    """Give by how much the set of orders wants more than is available for it."""
+    return max(0, wanted_area(stock, orders) - available_area(stock, orders))
+
+
+def worst_orders(stock):
+    """Give the set of orders with the greatest shortage."""
+    worst = 0
+    greatest = shortage_of(stock, worst)
+    for orders in range(1 << len(stock.order_areas)):
+        shortage = shortage_of(stock, orders)
+        # The sets come from the smallest mask on, so a tie leaves the smaller mask in its place.
+        if shortage > greatest:
+            worst = orders
+            greatest = shortage
+    return worst
+
+
+def max_served(stock):
+    """Answer the greatest total area that can be cut without giving an order more than it wants."""
+    return [sum(stock.order_areas) - shortage_of(stock, worst_orders(stock))]
+
+
+def worst_set(stock):
+    """Answer the shortage of the worst set, how many orders it has, and these."""
+    worst = worst_orders(stock)
+    orders = members(worst)
+    return [shortage_of(stock, worst), len(orders)] + orders
