@@ -1,5 +1,10 @@
 """What sets of orders lack, and how much can be served because of it."""
 
+from lotcutter.codes import OUT_OF_LIMITS
+from lotcutter.stocks import Stock
+
+MOST_AMOUNT = 99
+
 
 def members(mask):
     """Give the numbers in a set, in increasing order."""
@@ -24,9 +29,14 @@ def available_area(stock, orders):
     return sum([stock.lot_areas[lot] for lot in members(accepted_lots(stock, orders))])
 
 
+def room_of(stock, orders):
+    """Give by how much more is available for the set of orders than it wants: below 0 if it's short."""
+    return available_area(stock, orders) - wanted_area(stock, orders)
+
+
 def shortage_of(stock, orders):
     """Give by how much the set of orders wants more than is available for it."""
-    return max(0, wanted_area(stock, orders) - available_area(stock, orders))
+    return max(0, -room_of(stock, orders))
 
 
 def worst_orders(stock):
@@ -34,17 +44,22 @@ def worst_orders(stock):
     worst = 0
     greatest = shortage_of(stock, worst)
     for orders in range(1 << len(stock.order_areas)):
-        shortage = shortage_of(stock, orders)
+        lack = shortage_of(stock, orders)
         # The sets come from the smallest mask on, so a tie leaves the smaller mask in its place.
-        if shortage > greatest:
+        if lack > greatest:
             worst = orders
-            greatest = shortage
+            greatest = lack
     return worst
+
+
+def served_area(stock):
+    """Give the greatest total area that can be cut without giving an order more than it wants."""
+    return sum(stock.order_areas) - shortage_of(stock, worst_orders(stock))
 
 
 def max_served(stock):
     """Answer the greatest total area that can be cut without giving an order more than it wants."""
-    return [sum(stock.order_areas) - shortage_of(stock, worst_orders(stock))]
+    return [served_area(stock)]
 
 
 def worst_set(stock):
@@ -52,3 +67,22 @@ def worst_set(stock):
     worst = worst_orders(stock)
     orders = members(worst)
     return [shortage_of(stock, worst), len(orders)] + orders
+
+
+def shortage(stock, orders):
+    """Answer the shortage of a set of orders, what it wants, and what is available for it."""
+    if not stock.has_orders(orders):
+        return [OUT_OF_LIMITS]
+    return [shortage_of(stock, orders), wanted_area(stock, orders), available_area(stock, orders)]
+
+
+def can_serve_all(stock):
+    """Answer 1 if all orders can be served at the same time with what they want, otherwise 0."""
+    return [1 if shortage_of(stock, worst_orders(stock)) == 0 else 0]
+
+
+def can_serve(stock, amounts):
+    """Answer 1 if the orders can be served at the same time with these amounts, otherwise 0."""
+    if len(amounts) != len(stock.order_areas) or any([amount > MOST_AMOUNT for amount in amounts]):
+        return [OUT_OF_LIMITS]
+    return can_serve_all(Stock(stock.lot_areas, amounts, stock.order_lots))

@@ -17,12 +17,15 @@ class Stock:
 
     Each call gives back the list of the numbers it is answered with. It checks
     everything before it changes anything, so a refused call leaves no trace.
+
+    What a stock is made of is copied and not held against the limits, so that
+    one that is only supposed can be made, too, and asked like any other.
     """
 
-    def __init__(self):
-        self.lot_areas = []
-        self.order_areas = []
-        self.order_lots = []
+    def __init__(self, lot_areas, order_areas, order_lots):
+        self.lot_areas = list(lot_areas)
+        self.order_areas = list(order_areas)
+        self.order_lots = list(order_lots)
 
     def has_lot(self, lot):
         """Tell whether there is a lot of this number."""
@@ -35,6 +38,10 @@ class Stock:
     def has_order(self, order):
         """Tell whether there is an order of this number."""
         return order < len(self.order_areas)
+
+    def has_orders(self, orders):
+        """Tell whether all orders of the set are there."""
+        return orders < (1 << len(self.order_areas))
 
     def add_lot(self, area):
         """Add a lot and answer its number."""
@@ -104,3 +111,19 @@ class Stock:
         old_area = self.order_areas[order]
         self.order_areas[order] = area
         return [old_area]
+
+    def swap_priorities(self, first, second):
+        """Exchange two orders and answer 0."""
+        if not self.has_order(first) or not self.has_order(second):
+            return [NOT_THERE]
+        area = self.order_areas[first]
+        lots = self.order_lots[first]
+        self.order_areas[first] = self.order_areas[second]
+        self.order_lots[first] = self.order_lots[second]
+        self.order_areas[second] = area
+        self.order_lots[second] = lots
+        return [0]
+
+    def status(self):
+        """Answer how many lots and orders there are, and the sums of their areas."""
+        return [len(self.lot_areas), len(self.order_areas), sum(self.lot_areas), sum(self.order_areas)]

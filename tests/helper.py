@@ -1,10 +1,15 @@
-"""What the tests share: handing calls in, and splitting what is given back."""
+"""What the tests share: handing calls in, splitting what is given back, stocks to try, and slow counts."""
 
 from lotcutter.desk import answers
 
 CREATE = [0]
 MAX_SERVED = [9]
 WORST_SET = [10]
+PRIORITY_AMOUNTS = [13]
+CUT_PLAN = [14]
+LEFTOVERS = [15]
+CAN_SERVE_ALL = [16]
+STATUS = [21]
 BIGGEST = 4294967295
 
 
@@ -40,6 +45,30 @@ def set_order_area(order, area):
     return [8, order, area]
 
 
+def shortage(orders):
+    return [11, orders]
+
+
+def can_serve(amounts):
+    return [12, len(amounts), *amounts]
+
+
+def max_served_with_lot(lot, area):
+    return [17, lot, area]
+
+
+def max_served_with_order(area, lots):
+    return [18, area, lots]
+
+
+def gain_of_lot(lot):
+    return [19, lot]
+
+
+def swap_priorities(first, second):
+    return [20, first, second]
+
+
 def flat(calls):
     """The calls as the one list that the desk takes."""
     return [number for call in calls for number in call]
@@ -60,6 +89,8 @@ def split(given):
 
 def ask(calls):
     """One answer, as a list, for each call."""
+    if len(calls) > 60 or len(flat(calls)) > 600:
+        raise AssertionError(f"longer than any list that may be handed in: {len(calls)} calls")
     given = answers(flat(calls))
     if type(given) is not list or any(type(number) is not int for number in given):
         raise AssertionError(f"no list of whole numbers: {given}")
@@ -90,5 +121,69 @@ def probes(lot_count, order_count):
     return (
         [get_lot(lot) for lot in range(lot_count + 1)]
         + [get_order(order) for order in range(order_count + 1)]
-        + [MAX_SERVED, WORST_SET]
+        + [MAX_SERVED, WORST_SET, CUT_PLAN, STATUS]
     )
+
+
+def accepts(orders, order, lot):
+    return (orders[order][1] // 2 ** lot) % 2 == 1
+
+
+def slow_shortage(lot_areas, orders, chosen):
+    """The shortage of the orders with the chosen numbers, what they want, and what is available."""
+    wanted = sum(orders[order][0] for order in chosen)
+    available = 0
+    for lot, area in enumerate(lot_areas):
+        if any(accepts(orders, order, lot) for order in chosen):
+            available += area
+    return [max(wanted - available, 0), wanted, available]
+
+
+def slow_max_served(lot_areas, orders):
+    """The greatest total area of a cut plan, found by cutting unit after unit."""
+    left = list(lot_areas)
+    cuts = [[0] * len(lot_areas) for _ in orders]
+    total = 0
+    for order, (area, _) in enumerate(orders):
+        for _ in range(area):
+            if not cut_one_more(left, cuts, orders, order, set()):
+                break
+            total += 1
+    return total
+
+
+def cut_one_more(left, cuts, orders, order, tried):
+    """Cut one more unit for the order, if need be by moving others to other lots."""
+    for lot in range(len(left)):
+        if lot in tried or not accepts(orders, order, lot):
+            continue
+        tried.add(lot)
+        if left[lot] > 0:
+            left[lot] -= 1
+            cuts[order][lot] += 1
+            return True
+        for other in range(len(orders)):
+            if cuts[other][lot] > 0 and cut_one_more(left, cuts, orders, other, tried):
+                cuts[other][lot] -= 1
+                cuts[order][lot] += 1
+                return True
+    return False
+
+
+def some_stocks(count, lot_counts, order_counts, most_lot_area, most_order_area):
+    """Stocks of many kinds, the same ones at each run."""
+    seed = 20231
+    stocks = []
+
+    def draw(limit):
+        nonlocal seed
+        seed = (seed * 1103515245 + 12345) % 2 ** 31
+        return (seed // 2 ** 12) % limit
+
+    for _ in range(count):
+        lot_count = lot_counts[draw(len(lot_counts))]
+        order_count = order_counts[draw(len(order_counts))]
+        lot_areas = [draw(most_lot_area + 1) for _ in range(lot_count)]
+        orders = [(1 + draw(most_order_area), draw(2 ** lot_count)) for _ in range(order_count)]
+        stocks.append((lot_areas, orders))
+    return stocks

@@ -1,22 +1,12 @@
-"""max_served and worst_set, held against slow counts that are written here alone."""
+"""max_served and worst_set, held against slow counts that know nothing of the package."""
 
 import itertools
 import unittest
 
 from helper import (
     MAX_SERVED, WORST_SET, add_lot, add_order, ask_on, remove_order, set_accepted_lots,
-    set_lot_area, set_order_area,
+    set_lot_area, set_order_area, slow_max_served, slow_shortage, some_stocks,
 )
-
-
-def slow_shortage(lot_areas, orders, chosen):
-    """The shortage of the orders with the chosen numbers."""
-    wanted = sum(orders[order][0] for order in chosen)
-    available = 0
-    for lot, area in enumerate(lot_areas):
-        if any((orders[order][1] // 2 ** lot) % 2 == 1 for order in chosen):
-            available += area
-    return max(wanted - available, 0)
 
 
 def slow_worst_set(lot_areas, orders):
@@ -25,59 +15,9 @@ def slow_worst_set(lot_areas, orders):
     for size in range(len(orders) + 1):
         for chosen in itertools.combinations(range(len(orders)), size):
             mask = sum(2 ** order for order in chosen)
-            counted.append((-slow_shortage(lot_areas, orders, chosen), mask, chosen))
+            counted.append((-slow_shortage(lot_areas, orders, chosen)[0], mask, chosen))
     lack, _, chosen = min(counted)
     return [-lack, len(chosen), *chosen]
-
-
-def slow_max_served(lot_areas, orders):
-    """The greatest total area of a cut plan, found by cutting unit after unit."""
-    left = list(lot_areas)
-    cuts = [[0] * len(lot_areas) for _ in orders]
-    total = 0
-    for order, (area, _) in enumerate(orders):
-        for _ in range(area):
-            if not cut_one_more(left, cuts, orders, order, set()):
-                break
-            total += 1
-    return total
-
-
-def cut_one_more(left, cuts, orders, order, tried):
-    """Cut one more unit for the order, if need be by moving others to other lots."""
-    for lot in range(len(left)):
-        if lot in tried or (orders[order][1] // 2 ** lot) % 2 == 0:
-            continue
-        tried.add(lot)
-        if left[lot] > 0:
-            left[lot] -= 1
-            cuts[order][lot] += 1
-            return True
-        for other in range(len(orders)):
-            if cuts[other][lot] > 0 and cut_one_more(left, cuts, orders, other, tried):
-                cuts[other][lot] -= 1
-                cuts[order][lot] += 1
-                return True
-    return False
-
-
-def some_stocks(count, lot_counts, order_counts, most_lot_area, most_order_area):
-    """Stocks of many kinds, the same ones at each run."""
-    seed = 20231
-    stocks = []
-
-    def draw(limit):
-        nonlocal seed
-        seed = (seed * 1103515245 + 12345) % 2 ** 31
-        return (seed // 2 ** 12) % limit
-
-    for _ in range(count):
-        lot_count = lot_counts[draw(len(lot_counts))]
-        order_count = order_counts[draw(len(order_counts))]
-        lot_areas = [draw(most_lot_area + 1) for _ in range(lot_count)]
-        orders = [(1 + draw(most_order_area), draw(2 ** lot_count)) for _ in range(order_count)]
-        stocks.append((lot_areas, orders))
-    return stocks
 
 
 class Told(unittest.TestCase):
@@ -196,7 +136,7 @@ class Counted(unittest.TestCase):
                 chosen
                 for size in range(7)
                 for chosen in itertools.combinations(range(6), size)
-                if slow_shortage(lot_areas, orders, chosen) == greatest
+                if slow_shortage(lot_areas, orders, chosen)[0] == greatest
             ]
             shared += greatest > 0 and len(sets) > 1
         self.assertGreater(shared, 20)

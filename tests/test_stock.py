@@ -1,10 +1,11 @@
-"""Lots and orders: adding, removing, telling and changing them, and what is refused."""
+"""Lots and orders: adding, removing, telling and changing them, and what a refused call leaves."""
 
 import unittest
 
 from helper import (
-    BIGGEST, CREATE, add_lot, add_order, ask, ask_on, get_lot, get_order, probes, remove_order,
-    set_accepted_lots, set_lot_area, set_order_area,
+    BIGGEST, CREATE, MAX_SERVED, STATUS, add_lot, add_order, ask, ask_on, can_serve, gain_of_lot,
+    get_lot, get_order, max_served_with_lot, max_served_with_order, probes, remove_order,
+    set_accepted_lots, set_lot_area, set_order_area, shortage, swap_priorities,
 )
 
 LOTS = [10, 6, 0]
@@ -21,7 +22,7 @@ class Create(unittest.TestCase):
         self.assertEqual(ask([CREATE]), [[0]])
 
     def test_there_is_nothing_at_first(self):
-        self.assertEqual(ask([CREATE] + probes(0, 0)), [[0], [-2], [-2], [0], [0, 0]])
+        self.assertEqual(ask([CREATE] + probes(0, 0)), [[0], [-2], [-2], [0], [0, 0], [0], [0, 0, 0, 0]])
 
 
 class AddLot(unittest.TestCase):
@@ -218,6 +219,78 @@ class SetOrderArea(unittest.TestCase):
         self.assertEqual(after(calls), [[-2], [-2], [-2]])
 
 
+class SwapPriorities(unittest.TestCase):
+    def test_two_orders_change_places(self):
+        for first, second in ((0, 1), (1, 0), (0, 3), (3, 0), (2, 1)):
+            with self.subTest(first=first, second=second):
+                orders = [list(order) for order in ORDERS]
+                orders[first], orders[second] = list(ORDERS[second]), list(ORDERS[first])
+                calls = [swap_priorities(first, second)] + [get_order(order) for order in range(5)]
+                self.assertEqual(after(calls), [[0]] + orders + [[-2]])
+
+    def test_one_with_itself(self):
+        for order in range(4):
+            with self.subTest(order=order):
+                calls = [swap_priorities(order, order)] + [get_order(order) for order in range(4)]
+                self.assertEqual(after(calls), [[0]] + [list(order) for order in ORDERS])
+
+    def test_twice_is_as_it_was(self):
+        calls = [swap_priorities(0, 2), swap_priorities(2, 0)] + [get_order(order) for order in range(4)]
+        self.assertEqual(after(calls), [[0], [0]] + [list(order) for order in ORDERS])
+
+    def test_the_first_and_the_last_of_six(self):
+        orders = [(order + 1, order % 4) for order in range(6)]
+        given = ask_on([5, 5], orders, [swap_priorities(5, 0)] + [get_order(order) for order in range(6)])
+        self.assertEqual(given, [[0], [6, 1], [2, 1], [3, 2], [4, 3], [5, 0], [1, 0]])
+
+    def test_no_such_order(self):
+        pairs = [(0, 4), (4, 0), (4, 4), (4, 5), (3, BIGGEST), (BIGGEST, 3), (BIGGEST, BIGGEST)]
+        calls = [swap_priorities(first, second) for first, second in pairs]
+        self.assertEqual(after(calls), [[-2]] * len(pairs))
+
+    def test_a_lot_of_this_number_is_no_order(self):
+        self.assertEqual(ask_on([5, 5, 5], [(1, 1)], [swap_priorities(0, 1), swap_priorities(2, 0)]), [[-2], [-2]])
+
+    def test_changes_go_to_the_order_that_stands_there_by_then(self):
+        calls = [swap_priorities(0, 3), set_order_area(0, 40), set_accepted_lots(3, 4), remove_order(1)]
+        calls += [get_order(order) for order in range(4)]
+        self.assertEqual(after(calls), [[0], [9], [3], [3], [40, 0], [4, 2], [8, 4], [-2]])
+
+    def test_lots_and_sums_stay(self):
+        asked = [MAX_SERVED, STATUS, get_lot(0), get_lot(1), get_lot(2)]
+        self.assertEqual(after([swap_priorities(0, 3)] + asked), [[0]] + after(asked))
+
+
+class Status(unittest.TestCase):
+    def test_counts_and_sums(self):
+        self.assertEqual(after([STATUS]), [[3, 4, 16, 28]])
+
+    def test_nothing_there(self):
+        self.assertEqual(ask_on([], [], [STATUS]), [[0, 0, 0, 0]])
+
+    def test_lots_alone_and_orders_alone(self):
+        self.assertEqual(ask_on([0, 7], [], [STATUS]), [[2, 0, 7, 0]])
+        self.assertEqual(ask_on([], [(3, 0), (40, 0), (1, 0)], [STATUS]), [[0, 3, 0, 44]])
+
+    def test_the_greatest_of_all(self):
+        self.assertEqual(ask_on([40] * 6, [(40, 63)] * 6, [STATUS]), [[6, 6, 240, 240]])
+
+    def test_after_each_change(self):
+        changes = [
+            (add_lot(5), [4, 4, 21, 28]),
+            (add_order(11, 0), [3, 5, 16, 39]),
+            (remove_order(1), [3, 3, 16, 21]),
+            (set_lot_area(2, 40), [3, 4, 56, 28]),
+            (set_accepted_lots(3, 7), [3, 4, 16, 28]),
+            (set_order_area(0, 1), [3, 4, 16, 21]),
+            (swap_priorities(0, 1), [3, 4, 16, 28]),
+            (CREATE, [0, 0, 0, 0]),
+        ]
+        for change, told in changes:
+            with self.subTest(change=change):
+                self.assertEqual(after([change, STATUS])[1], told)
+
+
 class FailedCalls(unittest.TestCase):
     def check(self, lot_areas, orders, refused):
         """Each refused call by itself, and all of them at once, leave all as it was."""
@@ -246,6 +319,18 @@ class FailedCalls(unittest.TestCase):
             (set_order_area(4, 1), -2),
             (set_order_area(0, 0), -22),
             (set_order_area(3, 41), -22),
+            (shortage(16), -22),
+            (can_serve([0, 0, 0]), -22),
+            (can_serve([0, 0, 0, 0, 0]), -22),
+            (can_serve([0, 0, 0, 100]), -22),
+            (max_served_with_lot(3, 1), -2),
+            (max_served_with_lot(0, 41), -22),
+            (max_served_with_order(0, 1), -22),
+            (max_served_with_order(41, 1), -22),
+            (max_served_with_order(5, 8), -22),
+            (gain_of_lot(3), -2),
+            (swap_priorities(0, 4), -2),
+            (swap_priorities(4, 0), -2),
         ])
 
     def test_on_a_full_stock(self):
@@ -261,6 +346,17 @@ class FailedCalls(unittest.TestCase):
             (set_lot_area(5, 41), -22),
             (set_accepted_lots(5, 64), -22),
             (set_order_area(5, 41), -22),
+            (shortage(64), -22),
+            (can_serve([0] * 5), -22),
+            (can_serve([0] * 7), -22),
+            (can_serve([0] * 8), -22),
+            (can_serve([100, 0, 0, 0, 0, 0]), -22),
+            (max_served_with_lot(6, 1), -2),
+            (max_served_with_lot(5, 41), -22),
+            (max_served_with_order(5, 64), -22),
+            (gain_of_lot(6), -2),
+            (swap_priorities(5, 6), -2),
+            (swap_priorities(6, 6), -2),
         ])
 
     def test_on_an_empty_stock(self):
@@ -274,6 +370,12 @@ class FailedCalls(unittest.TestCase):
             (set_lot_area(0, 0), -2),
             (set_accepted_lots(0, 0), -2),
             (set_order_area(0, 1), -2),
+            (shortage(1), -22),
+            (can_serve([0]), -22),
+            (max_served_with_lot(0, 0), -2),
+            (max_served_with_order(1, 1), -22),
+            (gain_of_lot(0), -2),
+            (swap_priorities(0, 0), -2),
         ])
 
 
